@@ -1,0 +1,1 @@
+"""Heapcode: what code for heaps does, for lists of every size."""
