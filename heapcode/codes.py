@@ -1,6 +1,7 @@
 """Codes: texts of lines for one kind of deed and one width."""
 
 from heapcode.errors import BadKind, BadWidth, Refused, TooMany
+from heapcode.flow import Flow
 from heapcode.kinds import is_kind, is_width
 from heapcode.limits import least_break
 from heapcode.rows import read_rows
@@ -19,12 +20,16 @@ class Code:
         lines = text.split("\n") if text else []
         if len(lines) > MOST_LINES:
             raise TooMany("lines", len(lines), MOST_LINES)
-        broken = least_break(kind, read_rows(lines, width))
+        rows = read_rows(lines, width)
+        broken = least_break(kind, rows)
         if broken is not None:
             raise Refused(broken)
         self.kind = kind
         self.width = width
         self.text = text
+        self.flow = Flow(rows)
+        # What was found out about the code, so that no question is worked out again.
+        self.memory = {}
         self._lines = tuple(lines)
 
     def __len__(self):

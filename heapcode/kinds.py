@@ -2,6 +2,14 @@
 
 KINDS = ("put", "take", "top", "out", "either", "above", "below", "tree")
 WIDTHS = (2, 3, 4)
+SETTLING = ("either", "above", "below", "tree")
+# The kinds that are told a start, that are handed an item, that tell one, whose list is a heap at first.
+WITH_START = ("out", "either", "above", "below", "tree")
+WITH_GIVEN = ("put", "top")
+WITH_TOLD = ("take", "top", "out")
+OF_HEAPS = ("put", "take", "top", "out")
+# The kinds whose list loses its last place, so that all depends on where the last item lies.
+LOSING = ("take", "out")
 
 # What stands for some kinds alone: lines, and `given` where a test names it.
 ALLOWED = {
