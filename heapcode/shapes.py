@@ -98,7 +98,7 @@ class AllSizes:
         return self.sites_below(site, way, number, RIGHT if extra == 0 else LEFT)
 
     def sites_below(self, site, way, number, keep):
-        """The same; of the bits for neighbours of the way those in keep are told."""
+        """The same; of the bits for what is beside the way those in keep are told."""
         if not self.tracked:
             return self.plain_sites(site, number)
         if site[2] < MANY:
@@ -161,7 +161,7 @@ class AllSizes:
         return found
 
     def up_sites(self, site):
-        """The sites that the parent of a place above the start can be, the parent of the start's parent first."""
+        """The sites that the parent of a place above the start can be."""
         if not self.tracked:
             return [(False, 0, MANY, -1), (True, 0, MANY, -1)]
         found = [(False, WAY, MANY, -1), (True, WAY, MANY, -1)]
