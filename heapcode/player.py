@@ -173,9 +173,12 @@ class Player:
 
 
 def tell(player, row):
-    """The item at the present place is told."""
-    player.told = player.item(player.place)
-    return player.told is not None
+    """The item at the present place is told; where there is none, the one that was told before stays."""
+    item = player.item(player.place)
+    if item is None:
+        return False
+    player.told = item
+    return True
 
 
 def grab(player, row):
