@@ -2,7 +2,7 @@
 
 from heapcode.asks import ask
 from heapcode.looks import mate_item
-from heapcode.moves import come_home, descend, go_up
+from heapcode.moves import come_home
 from heapcode.shapes import GOAL
 from heapcode.worlds import (
     GIVEN, HAND, HERE, HERE_PLACE, KID, KID_BOUND, KID_PLACE, LAST, NONE, TOLD, UNSEEN, UP, UP_BOUND, UP_PLACE,
@@ -114,8 +114,8 @@ def go(search, world, row):
     if mate_item(search, world) < 0:
         return search.end_beyond(world)
     if row.place == "down":
-        return descend(search, world, world.mate)
-    go_up(search, world)
+        return search.leave_down(world, world.mate)
+    search.leave_up(world)
     return []
 
 
@@ -192,8 +192,7 @@ def sight(world, way):
 def meet_head(search, world, row):
     """A loop is met at its head, and its test is asked if the play goes on."""
     if world.loop != world.row:
-        search.enter_loop(world)
-        return []
+        return search.enter_loop(world)
     found = []
     for one in search.see_station(world):
         found.extend(ask_head(search, one, row))

@@ -26,6 +26,7 @@ def compare(search, world, strict, left, right):
     if low < 0 or high < 0:
         search.end_beyond(world)
         return []
+    world.compares = world.compares + 1
     answer = world.known(low, high, strict)
     if answer is not None:
         return [(world, answer)]

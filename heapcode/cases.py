@@ -81,14 +81,24 @@ def list_fits(kind, width, items, start):
     return is_heap_but_for(items, width, start) and leans_right(kind, items, width, start)
 
 
-def check_case(code, items, start, given):
-    """Raises what is wrong about a case for the code."""
+def check_items(items):
+    """Raises BadItem for the first value that is no item or has a mark that stands already."""
     bad = first_bad_item(items)
     if bad is not None:
         raise BadItem(bad)
-    if not start_fits(code.kind, len(items), start):
+
+
+def check_start_and_given(kind, items, start, given):
+    """Raises what is wrong about the start or the given item, for the kind and the list."""
+    if not start_fits(kind, len(items), start):
         raise BadCase("start")
-    if not given_fits(code.kind, items, given):
+    if not given_fits(kind, items, given):
         raise BadCase("given")
+
+
+def check_case(code, items, start, given):
+    """Raises what is wrong about a case for the code."""
+    check_items(items)
+    check_start_and_given(code.kind, items, start, given)
     if not list_fits(code.kind, code.width, items, start):
         raise BadCase("items")

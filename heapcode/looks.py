@@ -3,7 +3,7 @@
 from heapcode.items import parent
 from heapcode.shapes import GOAL, WAY, children_at
 from heapcode.worlds import (
-    BOUND, KID, KID_BOUND, KID_PLACE, LAST, LAST_BOUND, NONE, UNSEEN, UP, UP_BOUND, UP_PLACE,
+    BOUND, FROM_PARENT, KID, KID_BOUND, KID_PLACE, LAST, LAST_BOUND, NONE, UNSEEN, UP, UP_BOUND, UP_PLACE,
 )
 
 
@@ -68,7 +68,7 @@ def up_item(search, world):
     if world.site[0]:
         return NONE
     if cells[UP] == UNSEEN:
-        label = parent(world.site[3], search.width) if world.labels else 0
+        label = parent(world.site[3], search.width) if world.labels else FROM_PARENT
         token = world.new_token(label)
         if search.heaped and cells[BOUND] >= 0:
             world.learn(token, cells[BOUND], False)

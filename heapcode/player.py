@@ -10,16 +10,17 @@ SHIFTS = {"": 0, "less": -1, "more": 1}
 class Player:
     """One play of a code, from its first line until it has ended.
 
-    The list and the start are right for the kind of the code; the entries of the table are its own.
+    The start is right for the kind of the code and for the list.
     """
 
-    def __init__(self, code, items, start, given, entries):
+    def __init__(self, code, items, start, given):
         self.flow = code.flow
         self.width = code.width
         self.row = list(items)
         self.start = start
         self.given = given
-        self.entries = entries
+        # The entries that the play writes to the table.
+        self.noted = {}
         self.place = start
         self.hand = None
         self.mate = None
@@ -168,7 +169,7 @@ class Player:
         item = self.item(place)
         if item is None:
             return False
-        self.entries[item[1]] = place
+        self.noted[item[1]] = place
         return True
 
 

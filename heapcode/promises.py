@@ -57,12 +57,12 @@ def keeps_told(kind, items, start, told):
     return True
 
 
-def keeps_places(left, entries):
-    """Whether the table tells for each item of the list its place."""
-    return all([entries.get(mark) == place for place, (_, mark) in enumerate(left)])
+def keeps_places(left, entries, noted):
+    """Whether the table, with what was noted since, tells for each item of the list its place."""
+    return all([noted.get(mark, entries.get(mark)) == place for place, (_, mark) in enumerate(left)])
 
 
-def broken_at_end(code, items, start, given, player):
+def broken_at_end(code, items, start, given, player, entries):
     """The promises that a play breaks that is done."""
     left = player.row
     if not keeps_items(code.kind, code.width, items, start, given, left, player.told):
@@ -72,15 +72,15 @@ def broken_at_end(code, items, start, given, player):
         broken.append("order")
     if not keeps_told(code.kind, items, start, player.told):
         broken.append("told")
-    if not keeps_places(left, player.entries):
+    if not keeps_places(left, entries, player.noted):
         broken.append("places")
     return tuple(broken)
 
 
-def broken_by(code, items, start, given, player):
-    """The promises that the play breaks, in their order."""
+def broken_by(code, items, start, given, player, entries):
+    """The promises that the play breaks, in their order; the entries are those of the table at its start."""
     if player.ended == "beyond":
         return ("inside",)
     if player.ended == "endless":
         return ("ends",)
-    return broken_at_end(code, items, start, given, player)
+    return broken_at_end(code, items, start, given, player, entries)

@@ -12,7 +12,7 @@ from heapcode.ahead import goes_home, last_row_with_given, turning_loops, ways_b
 from heapcode.frames import close_kids, leave_behind
 from heapcode.items import parent
 from heapcode.kinds import WITH_TOLD
-from heapcode.moves import come_home, end_errand
+from heapcode.moves import come_home, descend, end_errand, go_up
 from heapcode.rows import LOOPS
 from heapcode.shapes import children_at
 from heapcode.starts import first_worlds
@@ -44,6 +44,8 @@ class Search:
         self.turns = {row: ways_back(self.flow, row) for row in loops}
         self.climbs = any([self.flow.rows[row].word == "up" for row in loops])
         self.last_given = last_row_with_given(self.flow)
+        # Whether what is assumed of keys is kept, so that a case can be made of it.
+        self.traced = shape.labels > 0
         self.states = {}
         # The states that are to be followed, by the levels that they take.
         self.waiting = {0: []}
@@ -265,8 +267,16 @@ class Search:
             other.assume(owed, token, True)
         return [other]
 
+    def leave_down(self, world, number):
+        """The play goes on to the child; the worlds in which it goes on at once, for what it does later here."""
+        return descend(self, world, number)
+
+    def leave_up(self, world):
+        """The play goes on to the parent."""
+        go_up(self, world)
+
     def enter_loop(self, world):
-        """A loop is met from outside."""
+        """A loop is met from outside; there is nothing to go on with at once."""
         for one in [world] if world.told_asked else self.ask_told(world):
             one.loop = one.row
             one.mate = 0
@@ -279,6 +289,7 @@ class Search:
             for two in worlds:
                 two.way = 0
                 self.keep_state(two)
+        return []
 
     def end_beyond(self, world):
         """The play is beyond."""

@@ -3,7 +3,7 @@
 from heapcode.kinds import LOSING, WITH_GIVEN
 from heapcode.shapes import GOAL, WAY
 from heapcode.worlds import (
-    BOUND, GIVEN, GONE, HERE, HERE_PLACE, LAST, LAST_BOUND, NONE, UNSEEN, UP, Beginning, World,
+    BOUND, FROM_GIVEN, FROM_LAST, GIVEN, GONE, HERE, HERE_PLACE, LAST, LAST_BOUND, NONE, UNSEEN, UP, Beginning, World,
 )
 
 
@@ -20,7 +20,7 @@ def start_sites(search):
 
 def bare_world(search, site, up_site):
     """A world with a start and without items."""
-    world = World(Beginning(search.shape.labels, search.shape.first_extra))
+    world = World(Beginning(search.shape.labels, search.shape.first_extra, search.traced))
     world.site = site
     world.up_site = up_site
     world.trail = (site[3],)
@@ -32,21 +32,27 @@ def bare_world(search, site, up_site):
     return world
 
 
-def add_last(world, size):
+def labels_at_start(search):
+    """The labels of the given item and of that of the last place."""
+    labels = search.shape.labels
+    return (labels - 2, labels - 3) if labels else (FROM_GIVEN, FROM_LAST)
+
+
+def add_last(world, label):
     """The item of the last place, where it matters, and what is known of it."""
     cells = world.cells
     if world.site[1] & GOAL:
         cells[LAST] = cells[LAST_BOUND] = cells[HERE]
         return
-    token = world.new_token(size - 1)
+    token = world.new_token(label)
     cells[LAST] = cells[LAST_BOUND] = token
     if world.site[1] & WAY:
         world.learn(cells[HERE], token, False)
 
 
-def add_bound(world, kind, size):
+def add_bound(world, kind):
     """The bound of the start of a settling kind other than tree, a number without an item."""
-    token = world.new_token(size + 1)
+    token = world.new_token(world.labels - 1)
     world.placed = world.placed | (1 << token)
     world.cells[BOUND] = token
     if kind == "above":
@@ -58,7 +64,7 @@ def add_bound(world, kind, size):
 def first_world(search, site, up_site):
     """The world in which a play with this start begins."""
     kind = search.kind
-    size = search.shape.labels - 2
+    given_label, last_label = labels_at_start(search)
     world = bare_world(search, site, up_site)
     cells = world.cells
     if kind != "put":
@@ -68,14 +74,14 @@ def first_world(search, site, up_site):
         if kind in LOSING or kind == "top":
             cells[BOUND] = token
         elif kind != "tree":
-            add_bound(world, kind, size)
+            add_bound(world, kind)
     if kind in LOSING:
-        add_last(world, size)
+        add_last(world, last_label)
         if cells[LAST] != cells[HERE]:
             # The last place goes, so no entry that tells it will be right.
             search.put_entry(world, cells[LAST], GONE)
     if kind in WITH_GIVEN:
-        cells[GIVEN] = world.new_token(size)
+        cells[GIVEN] = world.new_token(given_label)
     return world
 
 

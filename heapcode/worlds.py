@@ -56,10 +56,17 @@ TELLING = -3
 SETTLED = -4
 
 
+# Where a token comes from, if it is not a child of the present place, which is told by its number: see `origins`.
+FROM_START = 0
+FROM_GIVEN = -2
+FROM_LAST = -3
+FROM_PARENT = -4
+
+
 class Beginning:
     """What all worlds of a search begin with."""
 
-    def __init__(self, labels, extra):
+    def __init__(self, labels, extra, traced):
         self.labels = labels
         self.cells = [NONE] * (KID + 1) + [UNSEEN] * 4 + [NONE] * 4 + [UNSEEN] * 4
         self.le = [1 << token for token in range(labels)]
@@ -81,6 +88,7 @@ class Beginning:
         self.begin_place(extra)
         self.begin_turn()
         self.begin_table()
+        self.begin_trace(traced)
 
     def begin_place(self, extra):
         """Where the play is."""
@@ -122,6 +130,16 @@ class Beginning:
         self.sealed = 0
         self.fresh = 0
 
+    def begin_trace(self, traced):
+        """What is kept of what happened since the last state."""
+        # Whether what is assumed of keys is kept, and where numbered tokens come from: a child's number, or as above.
+        self.traced = traced
+        self.origins = []
+        self.compares = 0
+        # How the play ends, if this is known, and by how many places more than up to the goal the list is longer then.
+        self.manner = ""
+        self.last_extra = 0
+
 
 class World:
     """A world; it begins as a copy of another one."""
@@ -144,6 +162,7 @@ class World:
         self.copy_place(old)
         self.copy_turn(old)
         self.copy_table(old)
+        self.copy_trace(old)
 
     def copy_place(self, old):
         """Copies where the play is."""
@@ -177,11 +196,21 @@ class World:
         self.sealed = old.sealed
         self.fresh = old.fresh
 
-    def new_token(self, place):
-        """A token of an item that lay at the place at the start, or that has the number as its label."""
-        token = place
+    def copy_trace(self, old):
+        """Copies what is kept of what happened."""
+        self.traced = old.traced
+        self.origins = old.origins
+        self.compares = old.compares
+        self.manner = old.manner
+        self.last_extra = old.last_extra
+
+    def new_token(self, label):
+        """A token of an item: for lists of one size its number is the label, else the label tells where it is from."""
+        token = label
         if not self.labels:
             token = len(self.le)
+            if self.traced:
+                self.origins = self.origins + [label]
             self.le = self.le + [1 << token]
             self.lt = self.lt + [0]
         self.alive = self.alive | (1 << token)
@@ -208,7 +237,7 @@ class World:
     def assume(self, low, high, strict):
         """Learns what does not follow from the kind of the list."""
         self.learn(low, high, strict)
-        if self.labels:
+        if self.traced:
             self.facts = self.facts + [(low, high, strict)]
 
     def known(self, low, high, strict):

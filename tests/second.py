@@ -58,10 +58,11 @@ class Second:
     """A play; the table is kept from things to places."""
 
     def __init__(self, width, nodes, things, start, given, less=less_key, rank=rank_key):
-        self.width, self.things, self.start, self.place, self.given = width, list(things), start, start, given
+        self.width, self.start, self.place, self.given = width, start, start, given
+        self.begin(things)
         self.less, self.rank = less, rank
         self.hand = self.mate = self.told = self.way = None
-        self.table = {thing: place for place, thing in enumerate(things)}
+        self.been = [start]
         self.lines, self.sides, self.stations, self.compares = set(), set(), [], 0
         try:
             self.block(nodes)
@@ -73,8 +74,30 @@ class Second:
         except Endless:
             self.ended = "endless"
 
+    def begin(self, things):
+        self.things = list(things)
+        self.table = {thing: place for place, thing in enumerate(things)}
+
+    def enter(self, thing, place):
+        self.table[thing] = place
+
+    def entry(self, thing):
+        return self.table.get(thing)
+
+    def length(self):
+        return len(self.things)
+
+    def lengthen(self, thing):
+        self.things.append(thing)
+
+    def shorten(self):
+        self.things.pop()
+
+    def picture(self):
+        return tuple(self.things)
+
     def at(self, place):
-        if place is None or not 0 <= place < len(self.things):
+        if place is None or not 0 <= place < self.length():
             raise Beyond
         return self.things[place]
 
@@ -110,10 +133,10 @@ class Second:
                 return self.less(one, two, sign == " < ")
         words = part.split(" ")
         if words[0] == "has":
-            length = len(self.things) + {"less": -1, "more": 1}.get(words[-1], 0)
+            length = self.length() + {"less": -1, "more": 1}.get(words[-1], 0)
             return self.width * self.place + int(words[1]) < length
         if part == "inside":
-            return self.place < len(self.things)
+            return self.place < self.length()
         return self.place > 0 if part == "below root" else self.place != self.start
 
     def ask(self, line, test):
@@ -145,7 +168,7 @@ class Second:
         met = set()
         while True:
             self.stations.append(self.station(node[1]))
-            sight = (self.place, self.mate, self.hand, tuple(self.things))
+            sight = (self.place, self.mate, self.hand, self.picture())
             if sight in met:
                 raise Endless
             met.add(sight)
@@ -156,16 +179,16 @@ class Second:
     def station(self, line):
         children = [self.width * self.place + k for k in range(1, self.width + 1)]
         rank = None
-        if self.hand is not None and self.place < len(self.things):
-            rank = self.rank(self.hand, self.things[self.place])
-        return (line, sum(child < len(self.things) for child in children), self.place == 0, rank)
+        if self.hand is not None and self.place < self.length():
+            rank = self.rank(self.hand, self.at(self.place))
+        return (line, sum(child < self.length() for child in children), self.place == 0, rank)
 
     def write(self, place, thing):
         self.at(place)
         self.things[place] = thing
 
     def do(self, line):
-        last = len(self.things) - 1
+        last = self.length() - 1
         if line == "tell":
             self.told = self.at(self.place)
         elif line == "grab":
@@ -177,21 +200,22 @@ class Second:
         elif line == "lay":
             self.write(self.place, self.named("hand"))
         elif line == "longer":
-            self.things.append(self.given)
+            self.lengthen(self.given)
         elif line == "shorter":
             self.at(last)
-            self.things.pop()
+            self.shorten()
         elif line == "trade":
             self.exchange(self.place, last)
         elif line == "to start":
             self.place = self.start
         elif line == "note":
-            self.table[self.at(self.place)] = self.place
+            self.enter(self.at(self.place), self.place)
         elif line == "note mate":
-            self.table[self.named("mate")] = self.mates_place()
+            self.enter(self.named("mate"), self.mates_place())
         elif line == "go":
             self.named("mate")
             self.place, self.mate = self.mates_place(), None
+            self.been.append(self.place)
         elif line == "pull":
             self.write(self.place, self.named("mate"))
         elif line == "swap":
@@ -246,6 +270,6 @@ def broken_by(kind, width, things, start, given, play, less=less_key):
     if kind in ("take", "top"):
         if play.told not in things or not all(less(play.told, thing, False) for thing in things):
             broken.append("told")
-    if any(play.table.get(thing) != place for place, thing in enumerate(left)):
+    if any(play.entry(thing) != place for place, thing in enumerate(left)):
         broken.append("places")
     return tuple(broken)

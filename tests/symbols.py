@@ -71,12 +71,11 @@ def events_of(kind, width, count, place, given, play, playing):
     return found | {(promise,) for promise in broken}
 
 
-def events(code, count):
-    """What is met in some play on a list of so many items, and the promises that some play breaks."""
-    kind, width = code.kind, code.width
-    nodes = read(code.text)
+def plays(codes, count):
+    """All plays of the codes on one list of so many items, as tuples (start, given, plays, their comparisons)."""
+    kind, width = codes[0].kind, codes[0].width
+    texts = [read(code.text) for code in codes]
     given = count if kind in ("put", "top") else None
-    found = set()
     for place in first_places(kind, count):
         waiting = [[]]
         while waiting:
@@ -84,7 +83,42 @@ def events(code, count):
             for low, high in edges_of_kind(kind, width, count, place):
                 known.add(low, high, False)
             playing = Playing(known, waiting.pop())
-            play = Second(width, nodes, range(count), place, given, playing.less, playing.ranks)
+            found = [
+                Second(width, nodes, range(count), place, given, playing.less, playing.ranks) for nodes in texts
+            ]
             waiting += playing.others
-            found |= events_of(kind, width, count, place, given, play, playing)
+            yield place, given, found, playing
+
+
+def events(code, count):
+    """What is met in some play on a list of so many items, and the promises that some play breaks."""
+    found = set()
+    for place, given, (play,), playing in plays([code], count):
+        found |= events_of(code.kind, code.width, count, place, given, play, playing)
     return found
+
+
+def most_comparisons(code, count):
+    """The most comparisons of a play on a list of so many items; None if there is no list of the kind."""
+    return max((play.compares for _, _, (play,), _ in plays([code], count)), default=None)
+
+
+def on_one_path(places, width):
+    """Whether of each two of the places one is a forebear of the other."""
+    line, place = {0}, max(places)
+    while place:
+        line.add(place)
+        place = (place - 1) // width
+    return set(places) <= line
+
+
+def differ(one, two):
+    """Whether two plays on one list are not alike."""
+    if one.ended != two.ended or not on_one_path(one.been + two.been, one.width):
+        return True
+    return one.ended == "done" and (one.things != two.things or one.told != two.told)
+
+
+def parts(code, other, count):
+    """Whether the two codes differ on some list of so many items."""
+    return any(differ(*found) for _, _, found, _ in plays([code, other], count))
